@@ -353,6 +353,24 @@ func plainName(s string) bool {
 	return s != "" && strings.Trim(s, letters+"0123456789") == "" && strings.ContainsRune(letters, rune(s[0]))
 }
 
+// Name tells the longest one at the beginning: chapter 10 leans on it.
+func TestP901Names(t *testing.T) {
+	for s, want := range map[string]string{"": "", "a": "a", "_": "_", "Z9_a": "Z9_a", "ab-c": "ab", "a b": "a", "9a": "", "-a": "", " a": "", "a=b": "a", "é": "", "aé": "a", "a\x00": "a", "?": "", "$a": ""} {
+		if got := Name(s); got != want {
+			t.Errorf("Name of %q: %q, not %q", s, got, want)
+		}
+	}
+	for c := range 256 {
+		one := string([]byte{byte(c)})
+		if got := Name(one); (got == one) != plainName(one) || got != one && got != "" {
+			t.Errorf("Name of %q: %q", one, got)
+		}
+		if got := Name("a" + one + "-"); (got == "a"+one) != plainName("a"+one) {
+			t.Errorf("Name of %q: %q", "a"+one+"-", got)
+		}
+	}
+}
+
 func reserved() []string {
 	return []string{"then", "elif", "else", "fi", "do", "done", "esac", "}", "if", "while", "until", "for", "case", "{", "!"}
 }

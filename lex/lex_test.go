@@ -825,6 +825,34 @@ func TestP801Pops(t *testing.T) {
 	}
 }
 
+// First goes over the same things as a word, without asking how deep they are: chapter 10 leans on it.
+func TestP801First(t *testing.T) {
+	for s, want := range map[string]int{
+		"": 0, "a": 1, "ab": 1, " a": 1, "\\\n": 2, "#a": 1, ";;": 1, "(a)": 1, "'a b'c": 5, `"a b"c`: 5, `"\""c`: 4, `"'"'`: 3, `\`: 1, `\a`: 2, `\'a'`: 2, "$": 1, "$a": 1, "$(a b)c": 6, "$(a (b))c": 8, "${a b}c": 6, "${a:-'}'}c": 9, "`a b`c": 5, "`\\``c": 4, "''a": 2,
+	} {
+		if n, e := First(s); n != want || e != api.OK {
+			t.Errorf("First of %q: %d, %d, not %d", s, n, e, want)
+		}
+	}
+	for _, s := range []string{"'", `"`, `"\"`, "`", "`\\`", "$(", "$(a (b)", "${", "${a:-'}", strings.Repeat("$(", 1000), strings.Repeat("${a:-\"", 30000)} {
+		if n, e := First(s); n != 0 || e != api.ErrQuote {
+			t.Errorf("First of %.60q: %d, %d", s, n, e)
+		}
+	}
+	for _, n := range []int{api.MaxDeep, api.MaxDeep + 1, 60000} {
+		s := strings.Repeat("$(", n) + strings.Repeat(")", n)
+		if got, e := First(s + s); got != len(s) || e != api.OK {
+			t.Errorf("First of %d within one another: %d, %d", n, got, e)
+		}
+	}
+	for _, s := range shortTexts("a $(){}'\"\\`", 5)[1:] {
+		got, e := First(s)
+		if want, f := plainThing(s, 0); got != want || e != f {
+			t.Fatalf("First of %q: %d, %d, not %d, %d", s, got, e, want, f)
+		}
+	}
+}
+
 // within tells whether two texts share memory.
 func within(a, b string) bool {
 	if a == "" || b == "" {
