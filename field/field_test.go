@@ -2,6 +2,7 @@ package field
 
 import (
 	"bytes"
+	"errors"
 	"fmt"
 	"math"
 	"math/rand"
@@ -709,32 +710,81 @@ func TestP1001WhatCommandsPrint(t *testing.T) {
 		{`$('a)' "b)" \))`, `'a)' "b)" \)`, "x", "x", []string{"x"}},
 	} {
 		vars := sample()
-		e := over(&vars, 3)
-		e.print = func(command string) (string, error) {
+		h := over(&vars, 3)
+		h.Print = func(command string) (string, error) {
 			if command != x.command {
 				t.Errorf("%q runs %q, not %q", x.word, command, x.command)
 			}
 			return x.out, nil
 		}
-		w, err := e.whole(x.word)
-		if err != nil || bytesOf(w.signs.items) != x.text {
-			t.Errorf("%q is %v, not %q", x.word, w, x.text)
+		if got, err := h.Text(x.word); err != nil || got != x.text {
+			t.Errorf("%q is %q, %v, not %q", x.word, got, err, x.text)
 		}
 		vars = sample()
-		if l, err := e.fields(nil, []string{x.word}); err != nil || !slices.Equal(l, x.fields) {
+		if l, err := h.Fields(nil, []string{x.word}); err != nil || !slices.Equal(l, x.fields) {
 			t.Errorf("the fields of %q are %q, not %q", x.word, l, x.fields)
 		}
 	}
 	// What goes wrong there goes wrong here, wherever the command stands.
 	vars := sample()
-	e := over(&vars, 3)
-	e.print = func(string) (string, error) { return "out", api.ErrFuel }
+	h := over(&vars, 3)
+	h.Print = func(string) (string, error) { return "out", api.ErrFuel }
 	for _, s := range []string{"$(c)", "`c`", `"$(c)"`, "a${none:-\"`c`\"}"} {
-		if w, err := e.whole(s); w != nil || number(err) != api.ErrFuel {
-			t.Errorf("%q: %v, %v", s, w, err)
+		if got, err := h.Text(s); got != "" || !errors.Is(err, api.ErrFuel) {
+			t.Errorf("%q: %q, %v", s, got, err)
 		}
-		if l, err := e.fields(nil, []string{"a", s}); l != nil || number(err) != api.ErrFuel {
+		if got, err := h.Pattern(s); got != "" || !errors.Is(err, api.ErrFuel) {
+			t.Errorf("%q: %q, %v", s, got, err)
+		}
+		if l, err := h.Fields(nil, []string{"a", s}); l != nil || !errors.Is(err, api.ErrFuel) {
 			t.Errorf("%q: %v, %v", s, l, err)
+		}
+	}
+}
+
+// Each command in a word is run once, from the left, behind what was set ahead of it.
+func TestWhenCommandsRun(t *testing.T) {
+	for _, x := range []struct{ word, runs string }{
+		{"$(a)`b`$(c)", "a b c"},
+		{"${none:=v}$(a)", "a"},
+		{"${none:-$(a)}${none:+$(b)}$(c)", "a c"},
+		{"$(a)${1}$(b)", "a"},
+		{"'$(a)'\"$(b)\"\\$(c", "b"},
+	} {
+		vars := sample()
+		var runs []string
+		h := over(&vars, 0)
+		h.Print = func(command string) (string, error) {
+			runs = append(runs, command)
+			if value, _ := h.Find("none"); strings.Contains(x.word, ":=") && value != "v" {
+				t.Errorf("%q: a command ahead of what is set", x.word)
+			}
+			return "", nil
+		}
+		h.Text(x.word)
+		if got := strings.Join(runs, " "); got != x.runs {
+			t.Errorf("%q runs %s, not %s", x.word, got, x.runs)
+		}
+	}
+}
+
+// A pattern for a whole text: what is quoted has a \ ahead, what is open or plain has none.
+func TestPattern(t *testing.T) {
+	for word, want := range map[string]string{
+		"": "", "*.c": "*.c", "'*'.c": `\*.c`, `"*"?`: `\*?`, `\*[a]`: `\*[a]`, "'a/b'": `\a\/\b`, "a/b": "a/b", `"$a"`: `\x\ \y`, "$a": "x y", "$p": `*\?`, `"$p"`: `\*\\\?`,
+		"''": "", "$none": "", "${none:-'*'}": "*", "\"${none:-*}\"": `\*`, "$(c)": "o*", `"$(c)"`: `\o\*`, "$": "$", "'$'": `\$`, "$?": "3", `"$?"`: `\3`, "a b": "a b", "x\\": `x\\`,
+	} {
+		vars := append(sample(), api.Pair{Name: "p", Value: `*\?`})
+		h := over(&vars, 3)
+		h.Print = func(string) (string, error) { return "o*\n", nil }
+		if got, err := h.Pattern(word); err != nil || got != want {
+			t.Errorf("the pattern of %q is %q, %v, not %q", word, got, err, want)
+		}
+	}
+	vars := sample()
+	for word, want := range map[string]api.Errno{"'a": api.ErrQuote, "${1}": api.ErrSyntax, "$(a)": api.ErrHost, nestOf(api.MaxDeep+1, ":-", ""): api.ErrDeep, strings.Repeat("a", api.MaxText+1): api.ErrLong} {
+		if got, err := over(&vars, 0).Pattern(word); got != "" || !errors.Is(err, want) {
+			t.Errorf("the pattern of %.20q is %.20q, %v", word, got, err)
 		}
 	}
 }
