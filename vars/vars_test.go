@@ -745,6 +745,48 @@ func TestListsAreTheirOwn(t *testing.T) {
 	}
 }
 
+func TestHold(t *testing.T) {
+	for _, old := range []api.Var{
+		{Name: "a", Value: "old", Flav: api.FlavRecursive, Origin: api.OrigFile},
+		{Name: "a", Value: "", Flav: api.FlavSimple, Origin: api.OrigAuto, Export: 2},
+		{Name: "a", Value: "old", Flav: 7, Origin: 99, Export: 1},
+		{Name: "", Value: "old", Flav: api.FlavRecursive, Origin: -5},
+	} {
+		s := holding(t, old, api.Var{Name: "b", Value: "other", Flav: 1, Origin: 3})
+		before := s.List()
+		back := s.Hold(old.Name, "new")
+		wantVar(t, "held", s, api.Var{Name: old.Name, Value: "new", Flav: api.FlavSimple, Origin: api.OrigAuto, Export: old.Export})
+		s.Export(old.Name, 1)
+		wantTold(t, "Set over a held one", s.Set(old.Name, "x", 1, api.OrigOverride), false)
+		inner := s.Hold(old.Name, "newer")
+		wantVar(t, "held twice", s, api.Var{Name: old.Name, Value: "newer", Flav: api.FlavSimple, Origin: api.OrigAuto, Export: 1})
+		inner()
+		wantVar(t, "held once", s, api.Var{Name: old.Name, Value: "new", Flav: api.FlavSimple, Origin: api.OrigAuto, Export: 1})
+		back()
+		wantList(t, "put back", s, before...)
+	}
+}
+
+func TestHoldOfNone(t *testing.T) {
+	s := filled(t, api.MaxVars)
+	before := s.List()
+	back := s.Hold("new", "1")
+	wantVar(t, "held", s, api.Var{Name: "new", Value: "1", Flav: api.FlavSimple, Origin: api.OrigAuto})
+	wantTold(t, "Set of one more", s.Set("newer", "1", 1, 3), false)
+	if l := s.Twin().List(); !slices.Equal(l, s.List()) || len(l) != api.MaxVars+1 {
+		t.Errorf("the twin of a store that holds one more: %d variables", len(l))
+	}
+	back()
+	wantList(t, "put back", s, before...)
+	name, value := []byte("name"), []byte("value")
+	back = s.Hold(unsafe.String(&name[0], 4), unsafe.String(&value[0], 5))
+	clear(name)
+	clear(value)
+	wantVar(t, "held", s, api.Var{Name: "name", Value: "value", Flav: api.FlavSimple, Origin: api.OrigAuto})
+	back()
+	wantList(t, "put back", s, before...)
+}
+
 func TestNoStore(t *testing.T) {
 	var s *Store
 	wantNone(t, "no store", s, "a")
@@ -753,6 +795,7 @@ func TestNoStore(t *testing.T) {
 	wantTold(t, "Undefine", s.Undefine("a", 0), true)
 	s.Export("a", 1)
 	s.Export("a", 9)
+	s.Hold("a", "1")()
 	wantList(t, "no store", s)
 	wantNotSpecial(t, s, "@D")
 	wantNotSpecial(t, s, "")
