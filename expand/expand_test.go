@@ -397,7 +397,7 @@ func TestP1602Substituted(t *testing.T) {
 }
 
 func TestP1603EachFunctionIsKnown(t *testing.T) {
-	x := &expander{}
+	x := &Expander{}
 	for _, name := range refs.Funcs() {
 		if x.known(name) == nil {
 			t.Errorf("%s is not there", name)
@@ -753,13 +753,13 @@ func TestNoStore(t *testing.T) {
 }
 
 func TestErrorsAreWrapped(t *testing.T) {
-	x := &expander{vars: usual(t), lent: true, fuel: plenty}
-	_, err := x.text("a$(strip $(if b,$(r)))")
+	x := New(usual(t), nil, plenty, nobody{})
+	_, err := x.Text("a$(strip $(if b,$(r)))")
 	if number(err) != api.ErrSelf || err.Error() != "strip: if: r: r: anvil" {
 		t.Errorf("an error within parts: %v", err)
 	}
-	x.fuel = 2
-	if _, err = x.text("$(strip $(if b,$(r)))"); err != api.ErrFuel {
+	x.Fuel = 2
+	if _, err = x.Text("$(strip $(if b,$(r)))"); err != api.ErrFuel {
 		t.Errorf("out of fuel: %v", err)
 	}
 }

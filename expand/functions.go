@@ -26,49 +26,49 @@ type arguments struct {
 }
 
 // function is what a function does with its arguments, of which it looks at no more than it takes. Most of them are given them ready.
-type function func(x *expander, a arguments) (string, error)
+type function func(x *Expander, a arguments) (string, error)
 
 func functions() map[string]function {
 	return map[string]function{
-		"abspath":    (*expander).abspath,
-		"addprefix":  (*expander).addprefix,
-		"addsuffix":  (*expander).addsuffix,
-		"and":        (*expander).and,
-		"basename":   (*expander).basename,
-		"call":       (*expander).call,
-		"dir":        (*expander).dir,
-		"error":      (*expander).fail,
-		"eval":       (*expander).eval,
-		"filter":     (*expander).filter,
-		"filter-out": (*expander).filterOut,
-		"findstring": (*expander).findstring,
-		"firstword":  (*expander).firstword,
-		"flavor":     (*expander).flavor,
-		"foreach":    (*expander).foreach,
-		"if":         (*expander).choose,
-		"info":       (*expander).remark,
-		"join":       (*expander).join,
-		"lastword":   (*expander).lastword,
-		"notdir":     (*expander).notdir,
-		"or":         (*expander).or,
-		"origin":     (*expander).origin,
-		"patsubst":   (*expander).patsubst,
-		"shell":      (*expander).shell,
-		"sort":       (*expander).sort,
-		"strip":      (*expander).strip,
-		"subst":      (*expander).subst,
-		"suffix":     (*expander).suffix,
-		"value":      (*expander).value,
-		"warning":    (*expander).remark,
-		"wildcard":   (*expander).wildcard,
-		"word":       (*expander).word,
-		"wordlist":   (*expander).wordlist,
-		"words":      (*expander).words,
+		"abspath":    (*Expander).abspath,
+		"addprefix":  (*Expander).addprefix,
+		"addsuffix":  (*Expander).addsuffix,
+		"and":        (*Expander).and,
+		"basename":   (*Expander).basename,
+		"call":       (*Expander).call,
+		"dir":        (*Expander).dir,
+		"error":      (*Expander).fail,
+		"eval":       (*Expander).eval,
+		"filter":     (*Expander).filter,
+		"filter-out": (*Expander).filterOut,
+		"findstring": (*Expander).findstring,
+		"firstword":  (*Expander).firstword,
+		"flavor":     (*Expander).flavor,
+		"foreach":    (*Expander).foreach,
+		"if":         (*Expander).choose,
+		"info":       (*Expander).info,
+		"join":       (*Expander).join,
+		"lastword":   (*Expander).lastword,
+		"notdir":     (*Expander).notdir,
+		"or":         (*Expander).or,
+		"origin":     (*Expander).origin,
+		"patsubst":   (*Expander).patsubst,
+		"shell":      (*Expander).shell,
+		"sort":       (*Expander).sort,
+		"strip":      (*Expander).strip,
+		"subst":      (*Expander).subst,
+		"suffix":     (*Expander).suffix,
+		"value":      (*Expander).value,
+		"warning":    (*Expander).warning,
+		"wildcard":   (*Expander).wildcard,
+		"word":       (*Expander).word,
+		"wordlist":   (*Expander).wordlist,
+		"words":      (*Expander).words,
 	}
 }
 
 // known tells the function of a name, or nil. The table is made when the first one is asked for: most texts ask for none.
-func (x *expander) known(name string) function {
+func (x *Expander) known(name string) function {
 	if x.table == nil {
 		x.table = functions()
 	}
@@ -76,7 +76,7 @@ func (x *expander) known(name string) function {
 }
 
 // function tells the value of a function.
-func (x *expander) function(name string, a arguments) (string, error) {
+func (x *Expander) function(name string, a arguments) (string, error) {
 	if least, _ := refs.Bounds(name); len(a.texts) < least {
 		return "", api.ErrRef
 	}
@@ -100,7 +100,7 @@ func (x *expander) function(name string, a arguments) (string, error) {
 	return x.known(name)(x, a)
 }
 
-func (x *expander) makeReady(a *arguments) error {
+func (x *Expander) makeReady(a *arguments) error {
 	for i := range a.texts {
 		s, err := x.argument(*a, i)
 		if err != nil {
@@ -113,17 +113,17 @@ func (x *expander) makeReady(a *arguments) error {
 }
 
 // argument tells an argument's value: empty, if it is not there.
-func (x *expander) argument(a arguments, i int) (string, error) {
+func (x *Expander) argument(a arguments, i int) (string, error) {
 	switch {
 	case i >= len(a.texts):
 		return "", nil
 	case a.ready:
 		return a.texts[i], nil
 	}
-	return x.text(a.texts[i])
+	return x.Text(a.texts[i])
 }
 
-func (x *expander) subst(a arguments) (string, error) {
+func (x *Expander) subst(a arguments) (string, error) {
 	s, e := text.Replace(a.texts[2], a.texts[0], a.texts[1])
 	if e != api.OK {
 		return "", e
@@ -131,30 +131,30 @@ func (x *expander) subst(a arguments) (string, error) {
 	return s, nil
 }
 
-func (x *expander) patsubst(a arguments) (string, error) {
+func (x *Expander) patsubst(a arguments) (string, error) {
 	return ofEachWord(a.texts[2], func(w string) string { return pat.Subst(a.texts[0], a.texts[1], w) })
 }
 
-func (x *expander) strip(a arguments) (string, error) {
+func (x *Expander) strip(a arguments) (string, error) {
 	return joined(text.Split(a.texts[0])...)
 }
 
-func (x *expander) findstring(a arguments) (string, error) {
+func (x *Expander) findstring(a arguments) (string, error) {
 	if text.Find(a.texts[1], a.texts[0]) < 0 {
 		return "", nil
 	}
 	return a.texts[0], nil
 }
 
-func (x *expander) sort(a arguments) (string, error) {
+func (x *Expander) sort(a arguments) (string, error) {
 	return joined(text.Sort(text.Split(a.texts[0]))...)
 }
 
-func (x *expander) filter(a arguments) (string, error) {
+func (x *Expander) filter(a arguments) (string, error) {
 	return joined(pat.Filter(text.Split(a.texts[0]), text.Split(a.texts[1]), false)...)
 }
 
-func (x *expander) filterOut(a arguments) (string, error) {
+func (x *Expander) filterOut(a arguments) (string, error) {
 	return joined(pat.Filter(text.Split(a.texts[0]), text.Split(a.texts[1]), true)...)
 }
 
@@ -185,7 +185,7 @@ func between(words []string, first, last int) []string {
 	return words[first-1 : last]
 }
 
-func (x *expander) word(a arguments) (string, error) {
+func (x *Expander) word(a arguments) (string, error) {
 	n, err := place(a.texts[0])
 	if err != nil {
 		return "", err
@@ -193,7 +193,7 @@ func (x *expander) word(a arguments) (string, error) {
 	return joined(between(text.Split(a.texts[1]), n, n)...)
 }
 
-func (x *expander) wordlist(a arguments) (string, error) {
+func (x *Expander) wordlist(a arguments) (string, error) {
 	first, err := place(a.texts[0])
 	if err != nil {
 		return "", err
@@ -205,26 +205,26 @@ func (x *expander) wordlist(a arguments) (string, error) {
 	return joined(between(text.Split(a.texts[2]), first, last)...)
 }
 
-func (x *expander) words(a arguments) (string, error) {
+func (x *Expander) words(a arguments) (string, error) {
 	return text.Decimal(len(text.Split(a.texts[0]))), nil
 }
 
-func (x *expander) firstword(a arguments) (string, error) {
+func (x *Expander) firstword(a arguments) (string, error) {
 	return joined(between(text.Split(a.texts[0]), 1, 1)...)
 }
 
-func (x *expander) lastword(a arguments) (string, error) {
+func (x *Expander) lastword(a arguments) (string, error) {
 	words := text.Split(a.texts[0])
 	return joined(words[max(len(words)-1, 0):]...)
 }
 
-func (x *expander) dir(a arguments) (string, error) { return ofEachWord(a.texts[0], path.Dir) }
+func (x *Expander) dir(a arguments) (string, error) { return ofEachWord(a.texts[0], path.Dir) }
 
-func (x *expander) notdir(a arguments) (string, error) { return ofEachWord(a.texts[0], path.NotDir) }
+func (x *Expander) notdir(a arguments) (string, error) { return ofEachWord(a.texts[0], path.NotDir) }
 
-func (x *expander) basename(a arguments) (string, error) { return ofEachWord(a.texts[0], path.Base) }
+func (x *Expander) basename(a arguments) (string, error) { return ofEachWord(a.texts[0], path.Base) }
 
-func (x *expander) suffix(a arguments) (string, error) {
+func (x *Expander) suffix(a arguments) (string, error) {
 	var suffixes []string
 	for _, w := range text.Split(a.texts[0]) {
 		if s := path.Suffix(w); s != "" {
@@ -234,15 +234,15 @@ func (x *expander) suffix(a arguments) (string, error) {
 	return joined(suffixes...)
 }
 
-func (x *expander) addsuffix(a arguments) (string, error) {
+func (x *Expander) addsuffix(a arguments) (string, error) {
 	return ofEachWord(a.texts[1], func(w string) string { return w + a.texts[0] })
 }
 
-func (x *expander) addprefix(a arguments) (string, error) {
+func (x *Expander) addprefix(a arguments) (string, error) {
 	return ofEachWord(a.texts[1], func(w string) string { return a.texts[0] + w })
 }
 
-func (x *expander) join(a arguments) (string, error) {
+func (x *Expander) join(a arguments) (string, error) {
 	longer, behind := text.Split(a.texts[0]), text.Split(a.texts[1])
 	for i, w := range behind {
 		if i < len(longer) {
@@ -254,7 +254,7 @@ func (x *expander) join(a arguments) (string, error) {
 	return joined(longer...)
 }
 
-func (x *expander) wildcard(a arguments) (string, error) {
+func (x *Expander) wildcard(a arguments) (string, error) {
 	if x.files == nil {
 		return "", api.ErrHost
 	}
@@ -267,11 +267,11 @@ func (x *expander) wildcard(a arguments) (string, error) {
 	return l.String(), nil
 }
 
-func (x *expander) abspath(a arguments) (string, error) {
+func (x *Expander) abspath(a arguments) (string, error) {
 	return ofEachWord(a.texts[0], func(w string) string { return "/" + path.Clean(w) })
 }
 
-func (x *expander) choose(a arguments) (string, error) {
+func (x *Expander) choose(a arguments) (string, error) {
 	condition, err := x.argument(a, 0)
 	if err != nil {
 		return "", err
@@ -282,16 +282,16 @@ func (x *expander) choose(a arguments) (string, error) {
 	return x.argument(a, 2)
 }
 
-func (x *expander) or(a arguments) (string, error) {
+func (x *Expander) or(a arguments) (string, error) {
 	return x.until(a, func(value string) bool { return value != "" })
 }
 
-func (x *expander) and(a arguments) (string, error) {
+func (x *Expander) and(a arguments) (string, error) {
 	return x.until(a, func(value string) bool { return value == "" })
 }
 
 // until tells the first argument's value that settles it, or the last one's.
-func (x *expander) until(a arguments, settles func(value string) bool) (string, error) {
+func (x *Expander) until(a arguments, settles func(value string) bool) (string, error) {
 	var value string
 	var err error
 	for i := range a.texts {
@@ -302,7 +302,7 @@ func (x *expander) until(a arguments, settles func(value string) bool) (string, 
 	return value, err
 }
 
-func (x *expander) foreach(a arguments) (string, error) {
+func (x *Expander) foreach(a arguments) (string, error) {
 	name, err := x.argument(a, 0)
 	if err != nil {
 		return "", err
@@ -325,7 +325,7 @@ func (x *expander) foreach(a arguments) (string, error) {
 }
 
 // with tells the text of a foreach while its variable has a word.
-func (x *expander) with(word api.Pair, a arguments) (string, error) {
+func (x *Expander) with(word api.Pair, a arguments) (string, error) {
 	defer x.hold(word)()
 	return x.argument(a, 2)
 }
@@ -333,7 +333,7 @@ func (x *expander) with(word api.Pair, a arguments) (string, error) {
 // lastHidden is the last number of which a call hides what it is not given.
 const lastHidden = 9
 
-func (x *expander) call(a arguments) (string, error) {
+func (x *Expander) call(a arguments) (string, error) {
 	name := text.Trim(a.texts[0])
 	if x.known(name) != nil {
 		return x.function(name, arguments{texts: a.texts[1:], ready: true})
@@ -350,17 +350,17 @@ func (x *expander) call(a arguments) (string, error) {
 	return x.valueOf(x.find(name))
 }
 
-func (x *expander) value(a arguments) (string, error) {
+func (x *Expander) value(a arguments) (string, error) {
 	v, _ := x.vars.Get(a.texts[0])
 	return v.Value, nil
 }
 
-func (x *expander) origin(a arguments) (string, error) {
+func (x *Expander) origin(a arguments) (string, error) {
 	v, _ := x.vars.Get(a.texts[0])
 	return origins[below(len(origins), v.Origin)], nil
 }
 
-func (x *expander) flavor(a arguments) (string, error) {
+func (x *Expander) flavor(a arguments) (string, error) {
 	v, _ := x.vars.Get(a.texts[0])
 	return flavours[below(len(flavours), v.Flav)], nil
 }
@@ -373,10 +373,26 @@ func below(bound, n int) int {
 	return n
 }
 
-func (x *expander) fail(arguments) (string, error) { return "", api.ErrUser }
+func (x *Expander) fail(a arguments) (string, error) {
+	x.host.Note(api.NoteError, a.texts[0])
+	return "", api.ErrUser
+}
 
-func (x *expander) remark(arguments) (string, error) { return "", nil }
+func (x *Expander) warning(a arguments) (string, error) {
+	x.host.Note(api.NoteWarning, a.texts[0])
+	return "", nil
+}
 
-func (x *expander) shell(arguments) (string, error) { return "", api.ErrHost }
+func (x *Expander) info(a arguments) (string, error) {
+	x.host.Note(api.NoteInfo, a.texts[0])
+	return "", nil
+}
 
-func (x *expander) eval(arguments) (string, error) { return "", api.ErrHost }
+func (x *Expander) shell(a arguments) (string, error) { return x.host.Shell(a.texts[0]) }
+
+// eval has a text read. What is expanded there is within no part of this one: how deep that goes is the host's to say.
+func (x *Expander) eval(a arguments) (string, error) {
+	defer func(deep int) { x.deep = deep }(x.deep)
+	x.deep = 0
+	return "", x.host.Eval(a.texts[0])
+}

@@ -3,6 +3,7 @@ package rule
 import (
 	"errors"
 	"fmt"
+	"math/rand"
 	"slices"
 	"strings"
 	"testing"
@@ -719,5 +720,39 @@ func TestP1704SameArgumentsSameAnswers(t *testing.T) {
 				t.Errorf("Take(%q), once more: %+v", s, got)
 			}
 		}
+	}
+}
+
+func TestBehind(t *testing.T) {
+	for right, want := range map[string]string{
+		"": "", " ": "", "a": "", "a b": "", "%.o:%.c": "%.c", " %.o : %.c | d ": " %.c | d ", "%.o:": "", "%.o: ": " ", ":a": "a", ": :": " :", "%.o: a:b": " a:b", "l(a:b)": "", "l(a b:c) %.o: x": " x", "l(a:b c:d) %:e": "e", "l(a b:c": "c", "l(a b:c ) d:e": "e", "(a b:c d)": "c d)", "$(x:a=b) %.o:\t$(y:a=b)\n": "\t$(y:a=b)\n", "a(b) c(d e) f:g h": "g h", "a:b\n": "b\n", "\t\n%:\n%": "\n%",
+	} {
+		if got := Behind(right); got != want {
+			t.Errorf("Behind(%q): %q, not %q", right, got, want)
+		}
+	}
+}
+
+func TestBehindAgainstMake(t *testing.T) {
+	statics := 0
+	hold := func(right string) {
+		made, _, e := Make("x", right, false)
+		if e != api.OK || made.Static == "" {
+			return
+		}
+		statics++
+		again, _, _ := Make("x", "%:"+Behind(right), false)
+		if !slices.Equal(again.Prereqs, made.Prereqs) || !slices.Equal(again.Orders, made.Orders) {
+			t.Fatalf("Behind(%q): %q, and Make tells %+v", right, Behind(right), made)
+		}
+	}
+	eachText([]string{"%", ":", " ", "|", "x", "(", ")"}, 6, hold)
+	r := rand.New(rand.NewSource(3))
+	pieces := []string{"x", "%", "%: ", " ", " ", "\t", "\n", ":", " : ", "|", "(", ")", "l(", "l(a) "}
+	for range 100000 {
+		hold("%" + grown(r, pieces, 12))
+	}
+	if statics < 1000 {
+		t.Errorf("only %d static patterns", statics)
 	}
 }
