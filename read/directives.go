@@ -80,12 +80,36 @@ func (r *reader) define(_, words string) { r.defineFor(words, api.OrigFile) }
 func (r *reader) defineFor(words string, origin int) {
 	body, err := r.body()
 	r.must(err)
-	h := rule.Take(words)
-	if h.Kind != assignmentLine {
-		h = api.Head{Left: words, Set: api.SetRecursive}
-	}
+	h := defined(words)
 	h.Right = strings.Join(body, "\n")
 	r.assign(h, origin)
+}
+
+// defined tells the name that a define's words have, and how it is set. A sign within a reference is the reference's, and a : that begins none is the name's.
+func defined(words string) api.Head {
+	for from := 0; ; from++ {
+		at := refs.Scan(words[from:], ":+?!=")
+		if at < 0 {
+			return api.Head{Left: words, Set: api.SetRecursive}
+		}
+		from += at
+		if set := sign(words[from:]); set != 0 {
+			return api.Head{Left: words[:from], Set: set}
+		}
+	}
+}
+
+// sign tells how the sign that s begins with sets a variable; 0, if it begins with none.
+func sign(s string) int {
+	for _, c := range [...]struct {
+		bytes string
+		set   int
+	}{{"=", api.SetRecursive}, {":=", api.SetSimple}, {"::=", api.SetSimple}, {"+=", api.SetAppend}, {"?=", api.SetDefault}, {"!=", api.SetShell}} {
+		if strings.HasPrefix(s, c.bytes) {
+			return c.set
+		}
+	}
+	return 0
 }
 
 // body tells the lines of the define that is open, and goes on behind its endef; behind all lines, if it has none.

@@ -231,6 +231,31 @@ func (g *page) defined() (string, api.Errno) {
 	return "", api.ErrDefine
 }
 
+var signed = regexp.MustCompile(`(?s)^(.*?)(::=|:=|\+=|\?=|!=|=)`)
+
+// plainDefined tells a define's name and how it is set. The first sign counts, once all bytes of references are written over.
+func plainDefined(rest string) api.Head {
+	every := ""
+	for b := range 256 {
+		every += string([]byte{byte(b)})
+	}
+	masked := []byte(strings.Repeat("x", len(rest)))
+	for from := 0; ; from++ {
+		at := refs.Scan(rest[from:], every)
+		if at < 0 {
+			break
+		}
+		from += at
+		masked[from] = rest[from]
+	}
+	m := signed.FindSubmatch(masked)
+	if m == nil {
+		return api.Head{Left: rest, Set: api.SetRecursive}
+	}
+	set := map[string]int{"=": api.SetRecursive, ":=": api.SetSimple, "::=": api.SetSimple, "+=": api.SetAppend, "?=": api.SetDefault, "!=": api.SetShell}
+	return api.Head{Left: rest[:len(m[1])], Set: set[string(m[2])]}
+}
+
 // line tells a line that is no conditional's and no recipe's.
 func (p *scribe) line(g *page, kind int, s, word, rest string) {
 	h := rule.Take(s)
@@ -272,10 +297,7 @@ func (p *scribe) directive(g *page, word, rest string, origin int) {
 	case "define":
 		body, e := g.defined()
 		hold(e == api.OK, e)
-		h := rule.Take(rest)
-		if h.Kind != 1 {
-			h = api.Head{Left: rest, Set: 1}
-		}
+		h := plainDefined(rest)
 		h.Right = body
 		p.assign(h, origin)
 	case "undefine":
@@ -759,7 +781,7 @@ func (g grower) block(deep int) []string {
 }
 
 func (g grower) define(deep int) []string {
-	l := []string{g.of("", "", "override ") + "define " + g.name() + g.of("", "", " =", " :=", "+=", " ?=", " !=", " = x", " # c")}
+	l := []string{g.of("", "", "override ") + "define " + g.name() + g.of("", "", "", "", ":b", "::", " :+", "$:", ": b", "$(a:=b)", "?") + g.of("", "", " =", " :=", "::=", "+=", " ?=", " !=", " = x", " # c")}
 	l = append(l, g.lines(g.Intn(4), deep)...)
 	if g.one(4) {
 		l = append(l, "define b", g.of("echo", "endif"), "endef")
@@ -916,6 +938,7 @@ func TestAllShortMakefilesAgainstThePlainTelling(t *testing.T) {
 		{"ifdef b", "else", "endif", "define v", "endef", "override define v", "x:"},
 		{"x:", "\ty", "", "ifdef a", "endif", "v = 1", "include i", "$(eval z:)"},
 		{"define v", "endef", "define w +=", "\tendef", "x", "$(eval $(v))", "endef z"},
+		{"define v:w =", "define v:w:=", "override define v:w += a:", "define v:", "$(v:w)", "endef"},
 		{"x: y", "%: z ; r", ".SECONDEXPANSION:", ".DEFAULT_GOAL =", "\tr", ".y: z", "a.b: %.b: %.c"},
 	} {
 		var grow func(text string, more int)
@@ -929,4 +952,21 @@ func TestAllShortMakefilesAgainstThePlainTelling(t *testing.T) {
 		}
 		grow("", 5)
 	}
+}
+
+// All short texts of these pieces, behind a define.
+func TestAllShortNamesOfDefinesAgainstThePlainTelling(t *testing.T) {
+	s, f := vars.New(), tree(t)
+	s.Set("a", "1", api.FlavRecursive, api.OrigFile)
+	var grow func(name string, more int)
+	grow = func(name string, more int) {
+		agree(t, s, f, "define "+name+"\nx\nendef", 40)
+		for _, piece := range []string{":", "=", "+", "?", "!", " ", "$", "a", "$(a:=b)", "${"} {
+			if more > 0 {
+				grow(name+piece, more-1)
+			}
+		}
+	}
+	grow("", 4)
+	grow("a:", 4)
 }

@@ -552,6 +552,75 @@ func TestP1803Define(t *testing.T) {
 	}
 }
 
+func TestP1803DefineOfNamesWithColons(t *testing.T) {
+	for _, name := range []string{"a:b", "a:", "a::", "a:b:c", "a::b", "a:b c", "a: b", "a :b", "a :", "a:+b", "a?:", "a!b", "a+b", "a ? b", "%.o:%.c", "a:+"} {
+		for sign, v := range map[string]api.Var{
+			"":       {Value: "$(y)", Flav: api.FlavRecursive},
+			" =":     {Value: "$(y)", Flav: api.FlavRecursive},
+			" := ":   {Value: "z", Flav: api.FlavSimple},
+			"  ::=":  {Value: "z", Flav: api.FlavSimple},
+			" += ":   {Value: "$(y)", Flav: api.FlavRecursive},
+			" ?=":    {Value: "$(y)", Flav: api.FlavRecursive},
+			" !=\t":  {Value: "", Flav: api.FlavRecursive},
+			" = b:c": {Value: "$(y)", Flav: api.FlavRecursive},
+			" := =":  {Value: "z", Flav: api.FlavSimple},
+		} {
+			v.Name, v.Origin = name, api.OrigFile
+			wantDefined(t, "define "+name+sign, v)
+			v.Origin = api.OrigOverride
+			wantDefined(t, "override define "+name+sign+" # c", v)
+		}
+	}
+}
+
+// What stands ahead of the first sign is the name: blanks beside it are not.
+func TestP1803DefineSigns(t *testing.T) {
+	for line, v := range map[string]api.Var{
+		"define a:b=":         {Name: "a:b", Value: "$(y)", Flav: api.FlavRecursive},
+		"define a:b:=":        {Name: "a:b", Value: "z", Flav: api.FlavSimple},
+		"define a:b::=":       {Name: "a:b", Value: "z", Flav: api.FlavSimple},
+		"define a:::=":        {Name: "a:", Value: "z", Flav: api.FlavSimple},
+		"define a:+=":         {Name: "a:", Value: "$(y)", Flav: api.FlavRecursive},
+		"define a+:=":         {Name: "a+", Value: "z", Flav: api.FlavSimple},
+		"define a + =":        {Name: "a +", Value: "$(y)", Flav: api.FlavRecursive},
+		"define a : =":        {Name: "a :", Value: "$(y)", Flav: api.FlavRecursive},
+		"define $(x:w=a:)b":   {Name: "a:b", Value: "$(y)", Flav: api.FlavRecursive},
+		"define $(x:w=a:)b:=": {Name: "a:b", Value: "z", Flav: api.FlavSimple},
+		"define ${x:w=:=}=":   {Name: ":=", Value: "$(y)", Flav: api.FlavRecursive},
+		"define $x:=":         {Name: "w", Value: "z", Flav: api.FlavSimple},
+		"define a$:=":         {Name: "a", Value: "$(y)", Flav: api.FlavRecursive},
+		"define a$=:b":        {Name: "a:b", Value: "$(y)", Flav: api.FlavRecursive},
+		"define a$$:=":        {Name: "a$", Value: "z", Flav: api.FlavSimple},
+		"define a:b = c := d": {Name: "a:b", Value: "$(y)", Flav: api.FlavRecursive},
+	} {
+		v.Origin = api.OrigFile
+		wantDefined(t, line, v)
+	}
+	wantVars(t, "a:b = 1\n", "a:b", "a")
+	wantVars(t, "$(x)a:b := 1\ndefine a:b\n1\nendef\ndefine a:b +=\n2\nendef\ndefine a:b ?=\n3\nendef", "a:b=1 2")
+	wantWrong(t, "\ndefine $(x): = \n1", 2, api.ErrDefine)
+	wantWrong(t, "define $x ::=\n1\nendef", 1, api.ErrEmpty)
+	wantWrong(t, "define $(x:=\n1\nendef", 1, api.ErrRef)
+	wantWrong(t, "define a:$(x =\n1\nendef", 1, api.ErrRef)
+}
+
+// wantDefined wants a define of this first line, and no other, to set v and nothing beside it.
+func wantDefined(t *testing.T, line string, v api.Var) {
+	t.Helper()
+	s := vars.New()
+	s.Set("x", "w", api.FlavSimple, api.OrigFile)
+	s.Set("y", "z", api.FlavSimple, api.OrigFile)
+	s.Set(".SHELLSTATUS", "", api.FlavSimple, api.OrigOverride)
+	before := len(s.List())
+	if _, at, _, e := Read(s, usual(t), "m", line+"\n$(y)\nendef", plenty); e != api.OK {
+		t.Errorf("%q: line %d, error %d", line, at, int(e))
+	}
+	got, _ := s.Get(v.Name)
+	if more := len(s.List()) - before; got != v || more != 2 {
+		t.Errorf("%q: %+v, want %+v; %d more variables, want the list of makefiles alone", line, got, v, more-1)
+	}
+}
+
 // read tells a variable behind a makefile.
 func read(t *testing.T, text, name string) api.Var {
 	t.Helper()
