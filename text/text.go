@@ -56,11 +56,16 @@ func Find(s, sub string) int { return strings.Index(s, sub) }
 func Sort(l []string) []string {
 	sorted := slices.Clone(l)
 	slices.Sort(sorted)
-	sorted = slices.Compact(sorted)
-	for i, s := range sorted {
-		sorted[i] = strings.Clone(s)
+	return Copies(slices.Compact(sorted))
+}
+
+// Copies tells the texts of l in memory of their own: for the layers that keep what they are told.
+func Copies(l []string) []string {
+	var own []string
+	for _, s := range l {
+		own = append(own, strings.Clone(s))
 	}
-	return sorted
+	return own
 }
 
 // Number tells the number that 1 to 9 digits stand for, and whether s is such a text.

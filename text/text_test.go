@@ -363,6 +363,19 @@ func TestP105ListsAreNew(t *testing.T) {
 	}
 }
 
+func TestCopies(t *testing.T) {
+	l := []string{"b", "", "a", "b", "spare"}
+	got := Copies(l[:4])
+	if want := []string{"b", "", "a", "b"}; !slices.Equal(got, want) {
+		t.Errorf("Copies: %q, not %q", got, want)
+	}
+	got[0] = "x"
+	_ = append(got, "y")
+	if want := []string{"b", "", "a", "b", "spare"}; !slices.Equal(l, want) || len(Copies(nil)) != 0 {
+		t.Errorf("Copies shares memory with its list: %q", l)
+	}
+}
+
 // share tells whether one of two texts has a byte in the other's memory.
 func share(a, b string) bool {
 	if a == "" || b == "" {
@@ -390,6 +403,7 @@ func TestP105TextsAreNew(t *testing.T) {
 		{"Join", []string{Join([]string{s, lone})}, s},
 		{"Trim", []string{Trim(s)}, s},
 		{"Sort", Sort([]string{s, "a", s}), s},
+		{"Copies", Copies([]string{s, lone, s}), s},
 		{"Replace", []string{replaced(s, "o", "")}, s},
 		{"Replace", []string{replaced(s, "?", "!")}, s},
 		{"Replace", []string{replaced(s, "o", "o")}, s},
