@@ -506,18 +506,31 @@ func TestP2102HowManyTries(t *testing.T) {
 		{"of a member within", func(n int) []string { return []string{"%.t: l(x) ; a", times(n, "(%)", ": no ; b"), "(%): | ; c"} },
 			func(n int) int { return n + 3 }, "x.t", "0 x: l(x) < l(x)"},
 	} {
-		most := 0
-		for x.tries(most+1) <= 2000 {
-			most++
+		seen := 0
+		for n := 600; n < 2010; n++ {
+			for more := range 2 {
+				k := x.tries(n) + more
+				if k < 1996 || k > 2003 {
+					continue
+				}
+				want, l := x.want, x.rules(n)
+				if k >= 2000 {
+					want = "none"
+				}
+				if more == 1 {
+					// A terminal rule with an empty stem is tried ahead of all, once.
+					l = append(l, x.target+"%:: no ; t")
+				}
+				if got := shown(bare(planted(t), l...).search(x.target)); got != want {
+					t.Errorf("%d tries %s: %q, not %q", k, x.what, got, want)
+				}
+				if k == 1999 || k == 2000 {
+					seen |= k - 1998
+				}
+			}
 		}
-		for n := most - 3; n < most+4; n++ {
-			want := x.want
-			if n > most {
-				want = "none"
-			}
-			if got := shown(bare(planted(t), x.rules(n)...).search(x.target)); got != want {
-				t.Errorf("%d tries %s: %q, not %q", x.tries(n), x.what, got, want)
-			}
+		if seen != 3 {
+			t.Errorf("1,999 tries and 2,000 %s: seen is %d", x.what, seen)
 		}
 	}
 }

@@ -106,13 +106,11 @@ func (p *plainChain) step(l []plainCandidate, used []int, second bool) (api.Foun
 		if skip {
 			continue
 		}
-		if p.tries == 2000 {
-			p.out = true
-		}
+		p.tries++
+		p.out = p.tries >= 2000
 		if p.out {
 			return api.Found{}, false
 		}
-		p.tries++
 		a := api.Found{Rule: c.rule, Stem: c.head + c.stem, Prereqs: plainPut(p.rules[c.rule].Prereqs, c), Orders: plainPut(p.rules[c.rule].Orders, c)}
 		fails := false
 		for _, name := range append(append([]string{}, a.Prereqs...), a.Orders...) {
